@@ -1,0 +1,1 @@
+"""Fewbends: maps drawn by level and upright lines with the fewest turns."""
