@@ -3,7 +3,7 @@
 A map is a tuple (many, ties, orders); in the arguments it is called web.
 """
 
-from fewbends.errors import NoMap
+from fewbends.errors import NoLand, NoMap, NotFlat
 
 MOST_PLACES = 200
 MOST_TIES = 400
@@ -121,3 +121,15 @@ def land_of(web, end):
 
 def is_flat(web):
     return web[0] + len(lands(web)) == len(web[1]) + 2
+
+
+def check_flat(web):
+    check_map(web)
+    if not is_flat(web):
+        raise NotFlat("the map isn't flat")
+
+
+def check_outer(web, outer):
+    check_flat(web)
+    if not 0 <= outer < len(lands(web)):
+        raise NoLand("the map has no land of that number")

@@ -28,10 +28,13 @@ def places_close(web, corners):
 
 def lands_close(web, outer, corners, lefts):
     for number, land in enumerate(lands(web)):
-        wanted = -QUARTERS_ROUND if number == outer else QUARTERS_ROUND
-        if land_sum(land, corners, lefts) != wanted:
+        if land_sum(land, corners, lefts) != wanted_sum(number, outer):
             return False
     return True
+
+
+def wanted_sum(number, outer):
+    return -QUARTERS_ROUND if number == outer else QUARTERS_ROUND
 
 
 def land_sum(land, corners, lefts):

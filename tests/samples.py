@@ -4,6 +4,9 @@ Each function makes its map anew, so a test may change what it got.
 """
 
 import itertools
+import random
+
+from fewbends.maps import lands
 
 
 def single_tie():
@@ -158,3 +161,86 @@ def wreck(thing):
     for part in lists_within(thing):
         part.clear()
         part.append("wrecked")
+
+
+def held(case, ask, make_arguments):
+    """What point 2 asks of an answer that has lists."""
+    arguments = make_arguments()
+    handed = {id(part) for part in lists_within(arguments)}
+    told = ask(*make_arguments())
+    answer = ask(*arguments)
+    case.assertEqual(arguments, make_arguments())
+    case.assertEqual(answer, told)
+    own = [id(part) for part in lists_within(answer)]
+    case.assertTrue(own)
+    case.assertEqual(len(own), len(set(own)))
+    case.assertFalse(handed & set(own))
+    wreck(answer)
+    case.assertEqual(arguments, make_arguments())
+    again = ask(*arguments)
+    case.assertEqual(again, told)
+    wreck(arguments)
+    case.assertEqual(again, told)
+
+
+def drawn_map(seed, many, count):
+    """A flat map of many places and count ties, drawn by the seed."""
+    draw = random.Random(seed)
+    for attempt in range(1000):
+        web = self_tie() if many == 1 else single_tie()
+        while web is not None and len(web[1]) < count:
+            missing = many - web[0]
+            if missing and (len(web[1]) + missing == count or draw.random() < 0.5):
+                web = with_stalk(draw, web)
+            else:
+                web = with_chord(draw, web)
+        if web is not None and web[0] == many:
+            return web
+    raise ValueError("no such map was drawn")
+
+
+def with_stalk(draw, web):
+    """The map with a new place, tied to some place that has room."""
+    many, ties, orders = web
+    room = [place for place in range(many) if len(orders[place]) < 4]
+    if not room:
+        return None
+    place = draw.choice(room)
+    orders[place].insert(draw.randrange(len(orders[place])), 2 * len(ties))
+    return (many + 1, ties + [(place, many)], orders + [[2 * len(ties) + 1]])
+
+
+def with_chord(draw, web):
+    """The map with a new tie through one of its lands, from one of its corners to another or the same."""
+    many, ties, orders = web
+    chords = []
+    for land in lands(web):
+        # The new end stands just ahead of the end by which the corner is come to, so within this land.
+        corners = [(ties[end // 2][1 - end % 2], end ^ 1) for end in land]
+        for chord in itertools.product(corners, repeat=2):
+            places = [place for place, beside in chord]
+            if all(len(orders[place]) + places.count(place) <= 4 for place in places):
+                chords.append(chord)
+    if not chords:
+        return None
+    chord = draw.choice(chords)
+    for number, (place, beside) in enumerate(chord):
+        orders[place].insert(orders[place].index(beside), 2 * len(ties) + number)
+    return (many, ties + [(chord[0][0], chord[1][0])], orders)
+
+
+def free_wishes(web):
+    count = len(web[1])
+    return ([1] * count, [None] * count, [None] * (2 * count))
+
+
+def drawn_wishes(seed, web, most_weight, most_bar, set_share):
+    """Wishes for the map; bars where most_bar is a number, and so many of ten ends with a set corner."""
+    draw = random.Random(seed)
+    count = len(web[1])
+    weights = [draw.randint(0, most_weight) for _ in range(count)]
+    bars = [None] * count
+    if most_bar is not None:
+        bars = [draw.choice([None, draw.randint(0, most_bar)]) for _ in range(count)]
+    sets = [draw.randint(1, 4) if draw.randrange(10) < set_share else None for _ in range(2 * count)]
+    return (weights, bars, sets)

@@ -32,6 +32,7 @@ METHODS = set(
     "reverse rfind rjust rpartition rsplit rstrip setdefault split splitlines startswith strip "
     "update upper values zfill bit_length".split()
 )
+CHANGES = set("append clear extend insert pop remove reverse setdefault update".split())
 OUT = re.compile(
     r"\b(type|typing|typing_extensions|enum|Enum|IntEnum|StrEnum|Flag|IntFlag|Generic|Protocol|ABC"
     r"|ABCMeta|namedtuple|NamedTuple|TypedDict|TYPE_CHECKING|abstractmethod)\b"
@@ -45,6 +46,26 @@ def files():
 
 def trees():
     return [(path.name, ast.parse(path.read_text())) for path in files()]
+
+
+def walked_by(walk):
+    """What a loop walks, itself or through enumerate, zip, reversed and items."""
+    if isinstance(walk, ast.Call):
+        if isinstance(walk.func, ast.Name) and walk.func.id in ("enumerate", "zip", "reversed"):
+            return [part for one in walk.args for part in walked_by(one)]
+        if isinstance(walk.func, ast.Attribute):
+            return walked_by(walk.func.value)
+    return [walk] if isinstance(walk, (ast.Name, ast.Attribute, ast.Subscript)) else []
+
+
+def changed_in(statement):
+    changed = set()
+    for node in ast.walk(statement):
+        if isinstance(node, ast.Subscript) and isinstance(node.ctx, ast.Store):
+            changed.add(ast.dump(node.value))
+        if isinstance(node, ast.Call) and isinstance(node.func, ast.Attribute) and node.func.attr in CHANGES:
+            changed.add(ast.dump(node.func.value))
+    return changed
 
 
 class Language(unittest.TestCase):
@@ -72,6 +93,7 @@ class Language(unittest.TestCase):
                 self.assertIsInstance(node, STATEMENTS + EXPRESSIONS, (name, vars(node)))
                 if isinstance(node, ast.Assign):
                     self.assertEqual(len(node.targets), 1)
+                    self.assertIsInstance(node.targets[0], (ast.Name, ast.Attribute, ast.Subscript), name)
                 if isinstance(node, (ast.For, ast.While)):
                     self.assertEqual(node.orelse, [])
                 if isinstance(node, ast.ListComp):
@@ -136,6 +158,42 @@ class Language(unittest.TestCase):
             for node in ast.walk(tree):
                 if isinstance(node, ast.Call) and isinstance(node.func, ast.Attribute):
                     self.assertIn(node.func.attr, METHODS | own, name)
+
+    def test_what_a_loop_walks_is_not_changed_in_it(self):
+        for name, tree in trees():
+            for node in ast.walk(tree):
+                if isinstance(node, ast.For):
+                    walked = {ast.dump(part) for part in walked_by(node.iter)}
+                    for part in node.body:
+                        self.assertFalse(walked & changed_in(part), (name, node.lineno))
+
+    def test_values_of_objects(self):
+        methods = set()
+        values = set()
+        for name, tree in trees():
+            for node in ast.walk(tree):
+                if isinstance(node, ast.ClassDef):
+                    methods |= {part.name for part in node.body if isinstance(part, ast.FunctionDef)}
+                if isinstance(node, ast.Attribute) and isinstance(node.ctx, ast.Store):
+                    values.add(node.attr)
+        self.assertFalse(values & methods)
+        for kind in [str, int, list, dict, set, bytes]:
+            self.assertFalse(values & set(dir(kind)))
+
+    def test_no_two_files_draw_from_one_another(self):
+        drawn = {}
+        for name, tree in trees():
+            rows = [node for node in tree.body if isinstance(node, ast.ImportFrom)]
+            drawn[name[:-3]] = {row.module.split(".")[1] for row in rows}
+            for row in rows:
+                source = ast.parse((PACKAGE / (row.module.split(".")[1] + ".py")).read_text())
+                own = {node.name for node in source.body if isinstance(node, (ast.FunctionDef, ast.ClassDef))}
+                own |= {node.targets[0].id for node in source.body if isinstance(node, ast.Assign)}
+                self.assertLessEqual({one.name for one in row.names}, own, name)
+        while drawn:
+            ready = [name for name in drawn if not drawn[name] & set(drawn)]
+            self.assertTrue(ready, drawn)
+            drawn = {name: drawn[name] for name in drawn if name not in ready}
 
     def test_is_stands_beside_none_true_and_false_alone(self):
         for name, tree in trees():

@@ -286,31 +286,12 @@ class Mirrored(unittest.TestCase):
 
 
 class AskersOwn(unittest.TestCase):
-    def held(self, ask, make_arguments):
-        """What point 2 asks of an answer that has lists."""
-        arguments = make_arguments()
-        handed = {id(part) for part in samples.lists_within(arguments)}
-        told = ask(*make_arguments())
-        answer = ask(*arguments)
-        self.assertEqual(arguments, make_arguments())
-        self.assertEqual(answer, told)
-        own = [id(part) for part in samples.lists_within(answer)]
-        self.assertTrue(own)
-        self.assertEqual(len(own), len(set(own)))
-        self.assertFalse(handed & set(own))
-        samples.wreck(answer)
-        self.assertEqual(arguments, make_arguments())
-        again = ask(*arguments)
-        self.assertEqual(again, told)
-        samples.wreck(arguments)
-        self.assertEqual(again, told)
-
     def test_turns_shortened_and_mirrored_tell_new_lists(self):
         for make, outer, shape in samples.SHAPES:
             with self.subTest(make.__name__, outer=outer):
-                self.held(turns, lambda: (copy_of(shape),))
-                self.held(shortened, lambda: (copy_of(shape),))
-                self.held(mirrored, lambda: (make(), outer, copy_of(shape)))
+                samples.held(self, turns, lambda: (copy_of(shape),))
+                samples.held(self, shortened, lambda: (copy_of(shape),))
+                samples.held(self, mirrored, lambda: (make(), outer, copy_of(shape)))
 
     def test_is_shape_changes_nothing(self):
         for make, outer, shape in samples.SHAPES:
