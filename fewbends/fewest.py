@@ -3,9 +3,10 @@
 Wishes are a tuple (weights, bars, sets).
 """
 
+from fewbends.headings import QUARTERS_ROUND
 from fewbends.maps import check_outer, goes_to, land_numbers, lands, other_end
 from fewbends.nets import bound, cheapest, is_lot
-from fewbends.shapes import QUARTERS_ROUND, is_shape, shortened, turns, wanted_sum
+from fewbends.shapes import is_shape, shortened, turns, wanted_sum
 
 
 def keeps(wishes, shape):

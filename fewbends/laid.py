@@ -5,9 +5,10 @@ heading by which its first end leaves its place: 0 (east), 1 (north), 2 (west), 
 """
 
 from fewbends.errors import NoLaid, NoShape
+from fewbends.headings import QUARTERS_ROUND, opposite, quarters_right
 from fewbends.maps import behind, check_outer, ends_at_places, hangs_together, is_flat, lands
 from fewbends.maps import other_end, ties_name_places
-from fewbends.shapes import QUARTERS_ROUND, is_shape, land_sum, wanted_sum
+from fewbends.shapes import is_shape, land_sum, wanted_sum
 
 
 def check_laid(laid):
@@ -37,8 +38,8 @@ def ends_part(laid):
 
 
 def heading_of(laid, end):
-    # The second end of a tie leaves by the opposite heading.
-    return (laid[2][end // 2] + 2 * (end % 2)) % QUARTERS_ROUND
+    head = laid[2][end // 2]
+    return head if end % 2 == 0 else opposite(head)
 
 
 def lands_turn_round(laid):
@@ -63,9 +64,7 @@ def corners_of(laid):
     web = map_of(laid)
     corners = []
     for end in range(2 * len(laid[1])):
-        quarters = heading_of(laid, other_end(end)) - heading_of(laid, behind(web, end))
-        # Turning back into the same end is four quarters, not none.
-        corners.append((quarters - 1) % QUARTERS_ROUND + 1)
+        corners.append(quarters_right(heading_of(laid, other_end(end)), heading_of(laid, behind(web, end))))
     return corners
 
 
@@ -105,7 +104,7 @@ def end_headings(web, shape):
         end = waiting.pop()
         other = other_end(end)
         # What is found twice is found alike, since it is a shape.
-        back = (headings[end] + lefts[end] - lefts[other] + 2) % QUARTERS_ROUND
+        back = opposite(headings[end] + lefts[end] - lefts[other])
         onward = (back - corners[end]) % QUARTERS_ROUND
         for near, heading in [(other, back), (behind(web, end), onward)]:
             if near not in headings:

@@ -3,9 +3,8 @@
 A shape is a tuple (corners, lefts) of two lists with a number for each end.
 """
 
+from fewbends.headings import QUARTERS_ROUND
 from fewbends.maps import behind, goes_to, land_of, lands, other_end
-
-QUARTERS_ROUND = 4
 
 
 def is_shape(web, outer, shape):

@@ -6,7 +6,10 @@ Each function makes its map anew, so a test may change what it got.
 import itertools
 import random
 
+from fewbends.fewest import fewest
+from fewbends.laid import laid_out
 from fewbends.maps import lands
+from fewbends.partings import parted
 
 
 def single_tie():
@@ -244,3 +247,210 @@ def drawn_wishes(seed, web, most_weight, most_bar, set_share):
         bars = [draw.choice([None, draw.randint(0, most_bar)]) for _ in range(count)]
     sets = [draw.randint(1, 4) if draw.randrange(10) < set_share else None for _ in range(2 * count)]
     return (weights, bars, sets)
+
+
+def line():
+    return (2, [(0, 1)], [0])
+
+
+def square():
+    """Round to the left from the lower left corner: inside lies the land of the first ends."""
+    return (4, [(0, 1), (1, 2), (2, 3), (3, 0)], [0, 1, 2, 3])
+
+
+def cross():
+    return (5, [(0, 1), (0, 2), (0, 3), (4, 0)], [0, 1, 2, 1])
+
+
+def two_squares():
+    """Side by side, with the tie 5 between them."""
+    return (
+        6,
+        [(0, 1), (1, 2), (5, 2), (3, 4), (4, 5), (1, 4), (0, 3)],
+        [0, 0, 3, 0, 0, 1, 1],
+    )
+
+
+def stalks():
+    """An oblong with a stalk inside from the place 1 on to the north, and one outside from 2 to the east."""
+    return (
+        7,
+        [(0, 1), (1, 2), (2, 3), (3, 4), (4, 0), (1, 5), (6, 2)],
+        [0, 0, 1, 2, 3, 1, 2],
+    )
+
+
+def grid(wide, high):
+    """Places row by row from the lowest on; ties to the east, then ties to the north."""
+    ties = []
+    heads = []
+    for row, column in itertools.product(range(high), range(wide)):
+        if column + 1 < wide:
+            ties.append((row * wide + column, row * wide + column + 1))
+            heads.append(0)
+    for row, column in itertools.product(range(high - 1), range(wide)):
+        ties.append((row * wide + column, (row + 1) * wide + column))
+        heads.append(1)
+    return (wide * high, ties, heads)
+
+
+LAID = [line, square, cross, two_squares, stalks]
+
+
+def headed(spots, ties):
+    """A laid-out map of places at these points."""
+    heads = []
+    for a, b in ties:
+        across, up = spots[b][0] - spots[a][0], spots[b][1] - spots[a][1]
+        assert (across == 0) != (up == 0)
+        heads.append([across > 0, up > 0, across < 0, up < 0].index(True))
+    return (len(spots), list(ties), heads)
+
+
+def framed_line():
+    """A parting of the line: a cut at both ends, the line's second place is 1."""
+    spots = [(1, 1), (2, 1), (3, 1), (0, 1), (3, 0), (3, 2), (0, 2), (0, 0)]
+    ties = [(0, 1), (1, 2), (3, 0), (4, 2), (2, 5), (5, 6), (6, 3), (3, 7), (7, 4)]
+    return (headed(spots, ties), [0, -1, -1] + [-2] * 6)
+
+
+def framed_square():
+    """A parting of the square, with a cut from each of its places, like a windmill."""
+    spots = [
+        (1, 1), (2, 1), (2, 2), (1, 2), (1, 0), (3, 1), (2, 3), (0, 2), (0, 0), (3, 0), (3, 3), (0, 3),
+    ]
+    ties = [(0, 1), (1, 2), (2, 3), (3, 0), (0, 4), (1, 5), (2, 6), (3, 7)]
+    ties += [(8, 4), (4, 9), (9, 5), (5, 10), (10, 6), (6, 11), (11, 7), (7, 8)]
+    return (headed(spots, ties), [0, 1, 2, 3] + [-1] * 4 + [-2] * 8)
+
+
+def hook():
+    """To the east, then back to the west above it: the place 3 lies above the tie 0."""
+    return (4, [(0, 1), (1, 2), (3, 2)], [0, 1, 0])
+
+
+def framed_hook():
+    """A parting of the hook; the cut from 3 to the south parts the tie 0 at the place 4."""
+    spots = [(1, 1), (3, 1), (3, 2), (2, 2), (2, 1)]
+    # The frame, and what ends there: 5 west of 0, 6 east of 1, 7 north of 2, 8 north of 3, 9 south of 1.
+    spots += [(0, 1), (4, 1), (3, 3), (2, 3), (3, 0), (0, 0), (4, 0), (4, 3), (0, 3)]
+    ties = [(4, 1), (0, 4), (1, 2), (3, 2), (3, 4), (0, 5), (1, 6), (7, 2), (8, 3), (9, 1)]
+    ties += [(10, 9), (11, 9), (11, 6), (12, 6), (12, 7), (8, 7), (13, 8), (5, 13), (10, 5)]
+    return (headed(spots, ties), [0, 0, 1, 2] + [-1] * 6 + [-2] * 9)
+
+
+HAND_PARTINGS = [(line, framed_line), (square, framed_square), (hook, framed_hook)]
+
+
+def drawn_laid(seed, wide, high, many, share):
+    """A laid-out map on a sheet wide and high: a tree of many places, and a share of the ties beside."""
+    draw = random.Random(seed)
+    spots = [(draw.randrange(wide), draw.randrange(high))]
+    ties = []
+    while len(spots) < many:
+        spot = draw.choice(spots)
+        beside = [near for near in near_spots(wide, high, spot) if near not in spots]
+        if beside:
+            ties.append((spot, draw.choice(beside)))
+            spots.append(ties[-1][1])
+    for spot in list(spots):
+        for near in near_spots(wide, high, spot):
+            if near in spots and (spot, near) not in ties and (near, spot) not in ties and draw.random() < share:
+                ties.append((spot, near))
+    draw.shuffle(spots)
+    draw.shuffle(ties)
+    return headed(spots, [(spots.index(a), spots.index(b)) for a, b in ties])
+
+
+def near_spots(wide, high, spot):
+    x, y = spot
+    near = [(x + 1, y), (x, y + 1), (x - 1, y), (x, y - 1)]
+    return [(u, v) for u, v in near if 0 <= u < wide and 0 <= v < high]
+
+
+def with_more_turns(seed, shape, most):
+    """The same shape with some turns to the left and as many to the right at each tie."""
+    draw = random.Random(seed)
+    lefts = list(shape[1])
+    for first in range(0, len(lefts), 2):
+        more = draw.randint(0, most)
+        lefts[first] += more
+        lefts[first + 1] += more
+    return (list(shape[0]), lefts)
+
+
+def drawn_shape(seed, many, count):
+    """A flat map drawn by the seed, an outer land of it, and a shape with the fewest turns."""
+    web = drawn_map(seed, many, count)
+    outer = seed % len(lands(web))
+    return (web, outer, fewest(web, outer, drawn_wishes(seed, web, 5, None, 0))[1])
+
+
+def turned(laid, more):
+    many, ties, heads = laid
+    return (many, list(ties), [(head + more) % 4 for head in heads])
+
+
+def flipped(laid):
+    """Mirrored: west for east."""
+    many, ties, heads = laid
+    return (many, list(ties), [(2 - head) % 4 for head in heads])
+
+
+def turned_about(laid, numbers):
+    """With the ties of these numbers gone along the other way."""
+    many, ties, heads = laid
+    ties = [tie[::-1] if number in numbers else tie for number, tie in enumerate(ties)]
+    return (many, ties, [(head + 2) % 4 if number in numbers else head for number, head in enumerate(heads)])
+
+
+def numbered_anew(seed, keep, parting):
+    """With the ties, and the places from keep on, numbered anew; cuts and frame turned about as it comes."""
+    draw = random.Random(seed)
+    (many, ties, heads), pieces = parting
+    loose = [number for number, piece in enumerate(pieces) if piece < 0 and draw.random() < 0.5]
+    many, ties, heads = turned_about((many, ties, heads), loose)
+    places = list(range(keep, many))
+    draw.shuffle(places)
+    places = list(range(keep)) + places
+    order = list(range(len(ties)))
+    draw.shuffle(order)
+    ties = [(places[a], places[b]) for a, b in ties]
+    laid = (many, [ties[number] for number in order], [heads[number] for number in order])
+    return (laid, [pieces[number] for number in order])
+
+
+def otherwise(seed, laid, parting):
+    """The parting in all the ways in which it may be handed in, each with what it is a parting of."""
+    yield (laid, parting)
+    for more in range(4):
+        for change in [lambda one: turned(one, more), lambda one: turned(flipped(one), more)]:
+            whole, pieces = numbered_anew(seed + more, laid[0], parting)
+            yield (change(laid), (change(whole), pieces))
+
+
+def some_laid():
+    """Laid-out maps of many sorts: made by hand, drawn, laid out of shapes with few turns and many."""
+    for make in LAID + [hook]:
+        for more in range(4):
+            yield turned(make(), more)
+    yield from [grid(1, 5), grid(6, 1), grid(4, 3)]
+    for make, outer, shape in SHAPES:
+        yield laid_out(make(), outer, shape)[0]
+    for lefts in [[30, 0], [0, 30], [14, 16], [1, 1], [3, 3]]:
+        yield laid_out(single_tie(), 0, ([4, 4], lefts))[0]
+    for seed in range(24):
+        many = 2 + seed % 9
+        web, outer, shape = drawn_shape(seed, many, min(many + seed % 7, 2 * many - 1))
+        yield laid_out(web, outer, shape)[0]
+        yield laid_out(web, outer, with_more_turns(seed, shape, 2))[0]
+    for seed in range(24):
+        yield drawn_laid(seed, 3 + seed % 5, 3 + seed % 3, 2 + seed % 8, (seed % 3) / 3)
+
+
+def some_partings():
+    """Partings with what they are of: made by hand and told, in all ways in which they are handed in."""
+    for make, make_parting in HAND_PARTINGS:
+        yield from otherwise(1, make(), make_parting())
+    for seed, laid in enumerate(some_laid()):
+        yield from otherwise(seed, laid, parted(laid))

@@ -7,55 +7,9 @@ from fewbends.laid import check_laid, corners_of, laid_out, map_of, outer_of
 from fewbends.maps import behind, is_flat, lands
 from fewbends.shapes import is_shape
 from tests import samples
-from tests.samples import drawn_map, drawn_wishes, free_wishes
+from tests.samples import cross, drawn_map, drawn_wishes, free_wishes, grid, square, stalks, two_squares
 
-
-def line():
-    return (2, [(0, 1)], [0])
-
-
-def square():
-    """Round to the left from the lower left corner: inside lies the land of the first ends."""
-    return (4, [(0, 1), (1, 2), (2, 3), (3, 0)], [0, 1, 2, 3])
-
-
-def cross():
-    return (5, [(0, 1), (0, 2), (0, 3), (4, 0)], [0, 1, 2, 1])
-
-
-def two_squares():
-    """Side by side, with the tie 5 between them."""
-    return (
-        6,
-        [(0, 1), (1, 2), (5, 2), (3, 4), (4, 5), (1, 4), (0, 3)],
-        [0, 0, 3, 0, 0, 1, 1],
-    )
-
-
-def stalks():
-    """An oblong with a stalk inside from the place 1 on to the north, and one outside from 2 to the east."""
-    return (
-        7,
-        [(0, 1), (1, 2), (2, 3), (3, 4), (4, 0), (1, 5), (6, 2)],
-        [0, 0, 1, 2, 3, 1, 2],
-    )
-
-
-def grid(wide, high):
-    """Places row by row from the lowest on; ties to the east, then ties to the north."""
-    ties = []
-    heads = []
-    for row, column in itertools.product(range(high), range(wide)):
-        if column + 1 < wide:
-            ties.append((row * wide + column, row * wide + column + 1))
-            heads.append(0)
-    for row, column in itertools.product(range(high - 1), range(wide)):
-        ties.append((row * wide + column, (row + 1) * wide + column))
-        heads.append(1)
-    return (wide * high, ties, heads)
-
-
-RIGHT = [line, square, cross, two_squares, stalks]
+RIGHT = samples.LAID
 
 
 class CheckLaid(unittest.TestCase):
