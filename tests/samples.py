@@ -454,3 +454,160 @@ def some_partings():
         yield from otherwise(1, make(), make_parting())
     for seed, laid in enumerate(some_laid()):
         yield from otherwise(seed, laid, parted(laid))
+
+
+# (a map, its outer land, a drawing, the shape read off it), each worked out by hand.
+DRAWINGS = [
+    (single_tie, 0, ([(0, 0), (3, 0)], [[(0, 0), (3, 0)]]), ([4, 4], [0, 0])),
+    (single_tie, 0, ([(5, 2), (5, -7)], [[(5, 2), (5, -7)]]), ([4, 4], [0, 0])),
+    # East, north, east, south, west: to the left, to the right three times.
+    (
+        single_tie, 0,
+        ([(0, 0), (2, 1)], [[(0, 0), (1, 0), (1, 3), (4, 3), (4, 1), (2, 1)]]),
+        ([4, 4], [1, 3]),
+    ),
+    (self_tie, 1, ([(0, 0)], [[(0, 0), (1, 0), (1, 1), (0, 1), (0, 0)]]), ([1, 3], [3, 0])),
+    (self_tie, 0, ([(0, 0)], [[(0, 0), (1, 0), (1, -1), (0, -1), (0, 0)]]), ([3, 1], [0, 3])),
+    # The spot lies in the midst of a side.
+    (self_tie, 1, ([(1, 0)], [[(1, 0), (2, 0), (2, 1), (0, 1), (0, 0), (1, 0)]]), ([2, 2], [4, 0])),
+    (
+        ring, 1,
+        ([(0, 0), (1, 1), (0, 1)], [[(0, 0), (1, 0), (1, 1)], [(1, 1), (0, 1)], [(0, 1), (0, 0)]]),
+        ([1, 3, 1, 3, 1, 3], [1, 0, 0, 0, 0, 0]),
+    ),
+    (
+        ring, 0,
+        ([(0, 0), (0, 1), (1, 1)], [[(0, 0), (0, 1)], [(0, 1), (1, 1)], [(1, 1), (1, 0), (0, 0)]]),
+        ([3, 1, 3, 1, 3, 1], [0, 0, 0, 0, 0, 1]),
+    ),
+    (
+        three_ties, 1,
+        (
+            [(0, 0), (2, 0)],
+            [[(0, 0), (0, -1), (2, -1), (2, 0)], [(0, 0), (2, 0)], [(0, 0), (0, 1), (2, 1), (2, 0)]],
+        ),
+        ([1, 2, 1, 1, 2, 1], [2, 0, 0, 0, 0, 2]),
+    ),
+    (
+        star, 0,
+        (
+            [(0, 0), (2, 0), (0, 3), (-4, 0), (0, -5)],
+            [[(0, 0), (2, 0)], [(0, 3), (0, 0)], [(0, 0), (-4, 0)], [(0, -5), (0, 0)]],
+        ),
+        ([4, 1, 1, 4, 4, 1, 1, 4], [0] * 8),
+    ),
+    # The one loop east and north, the other west and south of the place.
+    (
+        side_loops, 1,
+        (
+            [(0, 0)],
+            [
+                [(0, 0), (2, 0), (2, 2), (0, 2), (0, 0)],
+                [(0, 0), (-3, 0), (-3, -3), (0, -3), (0, 0)],
+            ],
+        ),
+        ([1, 1, 1, 1], [3, 0, 3, 0]),
+    ),
+]
+
+
+def every_point(change, drawing):
+    spots, lines = drawing
+    return ([change(*spot) for spot in spots], [[change(*point) for point in line] for line in lines])
+
+
+def drawn_at_will(seed, wide, high, count, share, most):
+    """A map, its outer land and a right drawing of it, made of ties on a sheet without the program's help.
+
+    Spots with two ties may be places or parts of a line; at most so many are places.
+    """
+    draw = random.Random(seed)
+    many, ties, heads = drawn_laid(seed, wide, high, count, share)
+    spots = spots_of((many, ties, heads))
+    near = [{} for _ in range(many)]
+    for (a, b), head in zip(ties, heads):
+        near[a][head] = b
+        near[b][(head + 2) % 4] = a
+    places = [spot for spot in range(many) if len(near[spot]) != 2]
+    others = [spot for spot in range(many) if len(near[spot]) == 2]
+    draw.shuffle(others)
+    places += others[:max(most - len(places), 0 if places else 1)]
+    draw.shuffle(places)
+    if len(places) > most:
+        return None
+    lines = []
+    ends = [{} for _ in places]
+    for place, spot in enumerate(places):
+        for head in sorted(near[spot]):
+            if head not in ends[place]:
+                line, last = followed(near, places, spot, head)
+                ends[place][head] = 2 * len(lines)
+                ends[places.index(line[-1])][last] = 2 * len(lines) + 1
+                lines.append(line)
+    orders = [[at[head] for head in sorted(at)] for at in ends]
+    for order in orders:
+        first = draw.randrange(len(order))
+        order[:] = order[first:] + order[:first]
+    web = (len(places), [(places.index(line[0]), places.index(line[-1])) for line in lines], orders)
+    drawing = ([spots[spot] for spot in places], [without_straight([spots[k] for k in line]) for line in lines])
+    return (web, outer_by_area(web, drawing), drawing)
+
+
+def spots_of(laid):
+    """Where the places of a drawn laid-out map lie: each tie is one long there."""
+    many, ties, heads = laid
+    spots = {0: (0, 0)}
+    while len(spots) < many:
+        for (a, b), head in zip(ties, heads):
+            across, up = [(1, 0), (0, 1), (-1, 0), (0, -1)][head]
+            if a in spots:
+                spots[b] = (spots[a][0] + across, spots[a][1] + up)
+            elif b in spots:
+                spots[a] = (spots[b][0] - across, spots[b][1] - up)
+    return [spots[place] for place in range(many)]
+
+
+def followed(near, places, spot, head):
+    """The spots from one that is a place to the next one, and the heading by which the last leads back."""
+    line = [spot]
+    while len(line) == 1 or line[-1] not in places:
+        line.append(near[line[-1]][head])
+        back = (head + 2) % 4
+        if line[-1] not in places:
+            head = [other for other in near[line[-1]] if other != back][0]
+    return (line, back)
+
+
+def without_straight(points):
+    kept = [points[0]]
+    for before, point, after in zip(points, points[1:], points[2:]):
+        if (before[0] == point[0]) != (point[0] == after[0]):
+            kept.append(point)
+    return kept + [points[-1]]
+
+
+def outer_by_area(web, drawing):
+    """The one land that isn't gone round to the left: twice its area is nought or less."""
+    found = []
+    for number, land in enumerate(lands(web)):
+        area = 0
+        for end in land:
+            line = drawing[1][end // 2][:: 1 - 2 * (end % 2)]
+            area += sum(x * v - u * y for (x, y), (u, v) in zip(line, line[1:]))
+        if area <= 0:
+            found.append(number)
+    assert len(found) == 1
+    return found[0]
+
+
+def some_at_will(count):
+    """Right drawings that were made without the program, each with its map and outer land."""
+    seed = 0
+    while count:
+        sizes = (2 + seed % 4, 2 + seed % 3, 2 + seed % 11, (seed % 4) / 3, 1 + seed % 10)
+        fits = sizes[2] <= sizes[0] * sizes[1]
+        made = drawn_at_will(seed, *sizes) if fits else None
+        if made is not None and len(made[0][1]) <= 16:
+            yield made
+            count -= 1
+        seed += 1
