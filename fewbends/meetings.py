@@ -9,7 +9,7 @@ that place, from 0 on, in the line of that tie. Each step must be level or uprig
 def lines_meet(lines):
     level = stretches(lines, 0)
     upright = stretches(lines, 1)
-    return any_overlap(lines, level, 0) or any_overlap(lines, upright, 1) or any_cross(lines, level, upright)
+    return any_overlap(level) or any_overlap(upright) or any_cross(lines, level, upright)
 
 
 # The level ones by way 0, the upright ones by way 1, sorted by where they lie.
@@ -25,13 +25,13 @@ def stretches(lines, way):
     return sorted(told)
 
 
-# Where none overlap, those that lie at one height follow one another: so only neighbours are looked at.
-def any_overlap(lines, sorted_ones, way):
+# Where none overlap, those that lie at one height follow one another: so only neighbours are looked
+# at. They may touch: where one of them turns there, its line's next step crosses the other one, and
+# else both end a line there.
+def any_overlap(sorted_ones):
     for one, other in zip(sorted_ones, sorted_ones[1:]):
-        if one[0] == other[0] and other[1] <= one[2]:
-            shared = (one[2], one[0]) if way == 0 else (one[0], one[2])
-            if other[1] < one[2] or not both_end_at(lines, one, other, shared):
-                return True
+        if one[0] == other[0] and other[1] < one[2]:
+            return True
     return False
 
 
@@ -63,11 +63,8 @@ def first_from(sorted_ones, least):
 def may_touch(lines, upright, level):
     if upright[3] == level[3] and abs(upright[4] - level[4]) == 1:
         return True
-    return both_end_at(lines, upright, level, (upright[0], level[0]))
-
-
-def both_end_at(lines, one, other, point):
-    return ends_line_at(lines, one, point) and ends_line_at(lines, other, point)
+    point = (upright[0], level[0])
+    return ends_line_at(lines, upright, point) and ends_line_at(lines, level, point)
 
 
 def ends_line_at(lines, stretch, point):

@@ -89,11 +89,18 @@ def sum_by_walking(web, outer, lines):
 
 
 class Judged(unittest.TestCase):
+    """What is right, or wrong, is so turned by quarters too."""
+
+    def judge(self, web, outer, drawing, right):
+        for _ in range(4):
+            self.assertIs(is_drawing(web, outer, drawing), right, drawing)
+            drawing = every_point(lambda x, y: (-y, x), drawing)
+
     def right(self, web, outer, drawing):
-        self.assertIs(is_drawing(web, outer, drawing), True, drawing)
+        self.judge(web, outer, drawing, True)
 
     def wrong(self, web, outer, drawing):
-        self.assertIs(is_drawing(web, outer, drawing), False, drawing)
+        self.judge(web, outer, drawing, False)
 
 
 class ByHand(Judged):
@@ -266,7 +273,7 @@ class Wanting(Judged):
             ([(4, 3), (6, 3), (6, 0), (5, 0)], True), ([(4, 3), (4, 1)], False), ([(4, 3), (4, 5)], True),
         ]:
             drawing = ([(0, 0), (4, 0), (4, 3), last[-1]], [first, [(4, 0), (4, 3)], last])
-            self.assertIs(is_drawing(path, 0, drawing), right, last)
+            self.judge(path, 0, drawing, right)
             self.assertIs(by_the_words(path, 0, drawing), right, last)
 
     def test_lines_that_would_meet_between_whole_points(self):
@@ -351,7 +358,7 @@ class AtWill(Judged):
             changed = changed_somewhere(draw, stretched)
             wanted = by_the_words(web, outer, changed)
             seen[wanted] += 1
-            self.assertIs(is_drawing(web, outer, changed), wanted, (web, outer, changed))
+            self.judge(web, outer, changed, wanted)
         self.assertGreater(min(seen.values()), 500)
 
     def test_drawings_of_few_points_by_the_words_of_the_point(self):
@@ -366,7 +373,7 @@ class AtWill(Judged):
                     for outer in range(len(lands(web))):
                         wanted = by_the_words(web, outer, (spots, [line]))
                         seen[wanted] += 1
-                        self.assertIs(is_drawing(web, outer, (spots, [line])), wanted)
+                        self.judge(web, outer, (spots, [line]), wanted)
         self.assertGreater(min(seen.values()), 100)
 
     def test_lines_of_many_points(self):
@@ -382,7 +389,7 @@ class AtWill(Judged):
         ]:
             line = beside[:-1] + more if more else beside
             drawing = ([stairs[0], stairs[-1], beside[0], line[-1]], [stairs, line, link])
-            self.assertIs(is_drawing(web, 0, drawing), right)
+            self.judge(web, 0, drawing, right)
             self.assertIs(by_the_words(web, 0, drawing), right)
 
 
