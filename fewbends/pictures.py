@@ -1,7 +1,7 @@
 """Drawings as pictures made of signs: points 29 to 31 of the document.
 
-A spot in a picture is a tuple (row, place): rows are counted from the uppermost one on, places from
-the left.
+A cell of a picture is a tuple (row, place): rows are counted from the uppermost one on, places in a
+row from the left.
 """
 
 from fewbends.errors import NoPicture
@@ -72,7 +72,7 @@ def read_picture(rows):
     return laid
 
 
-# All signs but blanks by their spots, row by row, from left to right.
+# All signs but blanks by their cells, row by row, from left to right.
 def signs_of(rows):
     signs = {}
     for row, text in enumerate(rows):
@@ -91,7 +91,7 @@ def check_figures(signs):
 
 
 def next_cell(cell, head):
-    # Rows are counted downward, so north of a spot is the row ahead of it.
+    # Rows are counted downward, so north of a cell is the row ahead of it.
     moved = point_beyond((cell[1], -cell[0]), head, 1)
     return (-moved[1], moved[0])
 
@@ -112,7 +112,7 @@ def is_tied_rightly(signs, cell):
     return True
 
 
-# The spots of the figures, by their numbers, and behind them those of the signs +.
+# The cells of the figures, by their numbers, and behind them those of the signs +.
 def places_of(signs):
     figures = [cell for cell, sign in signs.items() if sign in FIGURES]
     turning = [cell for cell, sign in signs.items() if sign == "+"]

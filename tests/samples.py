@@ -296,6 +296,15 @@ def grid(wide, high):
 
 LAID = [line, square, cross, two_squares, stalks]
 
+SQUARE_TIES = [(0, 1), (1, 2), (2, 3), (3, 0)]
+
+# (many, ties): all headings of them are tried.
+FEW_TIES = [
+    (1, [(0, 0)]), (2, [(0, 1)]), (2, [(0, 1), (1, 0)]), (2, [(0, 1), (0, 0)]), (3, [(0, 1), (2, 1)]),
+    (3, [(0, 1), (1, 2), (2, 0)]), (4, SQUARE_TIES), (4, SQUARE_TIES + [(0, 2)]), (5, SQUARE_TIES + [(4, 0)]),
+    (4, [(0, 1), (0, 2), (0, 3)]), (6, [(0, 1), (1, 2), (2, 3), (3, 4), (4, 5), (5, 0)]),
+]
+
 
 def headed(spots, ties):
     """A laid-out map of places at these points."""

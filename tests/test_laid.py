@@ -126,12 +126,7 @@ class CheckLaid(unittest.TestCase):
 
     def test_all_headings_by_the_words_of_the_point(self):
         seen = {True: 0, False: 0}
-        ring = [(0, 1), (1, 2), (2, 3), (3, 0)]
-        for many, ties in [
-            (1, [(0, 0)]), (2, [(0, 1)]), (2, [(0, 1), (1, 0)]), (2, [(0, 1), (0, 0)]), (3, [(0, 1), (2, 1)]),
-            (3, [(0, 1), (1, 2), (2, 0)]), (4, ring), (4, ring + [(0, 2)]), (5, ring + [(4, 0)]),
-            (4, [(0, 1), (0, 2), (0, 3)]), (6, [(0, 1), (1, 2), (2, 3), (3, 4), (4, 5), (5, 0)]),
-        ]:
+        for many, ties in samples.FEW_TIES:
             for heads in itertools.product(range(4), repeat=len(ties)):
                 laid = (many, ties, list(heads))
                 told = by_the_words(laid)

@@ -1,3 +1,4 @@
+import itertools
 import random
 import unittest
 
@@ -345,6 +346,23 @@ class Told(Judged):
             for more in range(4):
                 for one in [samples.turned(laid, more), samples.flipped(samples.turned(laid, more))]:
                     self.right(one, parted(one))
+
+    def test_all_headings_of_few_ties(self):
+        looked = 0
+        for many, ties in samples.FEW_TIES:
+            for heads in itertools.product(range(4), repeat=len(ties)):
+                laid = (many, ties, list(heads))
+                try:
+                    check_laid(laid)
+                except NoLaid:
+                    continue
+                looked += 1
+                self.right(laid, parted(laid))
+        self.assertGreater(looked, 100)
+
+    def test_handed_in_otherwise(self):
+        for laid, parting in samples.some_partings():
+            self.assertIs(is_parting(laid, parting), True)
 
     def test_a_line(self):
         # Whichever end the frame hangs at: four places of its corners, two where the cuts end.

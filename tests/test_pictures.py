@@ -118,6 +118,11 @@ class Shown(unittest.TestCase):
             for row in picture(every_point(lambda x, y: (-x, y), drawing)):
                 self.assertEqual(row, row.rstrip())
 
+    def test_a_row_without_signs_is_the_empty_text(self):
+        # Lines that hang together leave no such row; these don't.
+        lines = [[(0, 0), (1, 0)], [(0, 2), (1, 2)]]
+        self.assertEqual(picture((lines[0] + lines[1], lines)), ["2-3", "", "", "", "0-1"])
+
     def test_ten_places(self):
         spots = [(place, 0) for place in range(10)]
         lines = [[(place, 0), (place + 1, 0)] for place in range(9)]
