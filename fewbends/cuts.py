@@ -4,7 +4,7 @@ A cut goes straight on from a corner of 3 or 4 and ends at the first tie that ca
 corner is parted into one of 2 and one of 1 or 2, and the land into two that close like any other.
 """
 
-from fewbends.headings import QUARTERS_ROUND, opposite
+from fewbends.headings import QUARTERS_ROUND, end_heading, opposite
 from fewbends.laid import corners_of, map_of, outer_of
 from fewbends.maps import lands, other_end
 
@@ -37,11 +37,6 @@ def add_tie(sheet, tie, head, piece):
     return first
 
 
-def heading(sheet, end):
-    head = sheet.heads[end // 2]
-    return head if end % 2 == 0 else opposite(head)
-
-
 def end_goes_to(sheet, end):
     return sheet.ties[end // 2][1 - end % 2]
 
@@ -57,7 +52,7 @@ def corner_and_behind(sheet, end):
 
 
 def onward_heading(sheet, end, corner):
-    return (heading(sheet, other_end(end)) - corner) % QUARTERS_ROUND
+    return (end_heading(sheet.heads, other_end(end)) - corner) % QUARTERS_ROUND
 
 
 # Parts a tie by a new place, and tells that place.
@@ -73,7 +68,7 @@ def part_tie(sheet, number):
 
 # A cut from where the end leads to, straight on to the tie of the end that faces it.
 def add_cut(sheet, end, facing):
-    head = heading(sheet, end)
+    head = end_heading(sheet.heads, end)
     place = part_tie(sheet, facing // 2)
     add_tie(sheet, (end_goes_to(sheet, end), place), head, CUT)
 
@@ -127,7 +122,7 @@ def cut_up(laid):
         add_tie(sheet, tie, laid[2][number], number)
     out = way_out(laid)
     # With this cut the frame hangs together with the map, and between them lies a land like others.
-    add_cut(sheet, out, add_frame(sheet, heading(sheet, out)))
+    add_cut(sheet, out, add_frame(sheet, end_heading(sheet.heads, out)))
     end = 0
     while end < 2 * len(sheet.ties):
         if not is_outside(sheet, end) and corner_and_behind(sheet, end)[0] > 2:

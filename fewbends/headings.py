@@ -9,6 +9,12 @@ def opposite(head):
     return (head + 2) % QUARTERS_ROUND
 
 
+# The heading by which an end leaves its place, by the headings of the ties' first ends.
+def end_heading(heads, end):
+    head = heads[end // 2]
+    return head if end % 2 == 0 else opposite(head)
+
+
 # By how many quarters, 1 to 4, one must turn to the right from a heading to another one.
 def quarters_right(head, onward):
     # Turning back to the same heading is four quarters, not none.

@@ -5,7 +5,7 @@ heading by which its first end leaves its place: 0 (east), 1 (north), 2 (west), 
 """
 
 from fewbends.errors import NoLaid, NoShape
-from fewbends.headings import QUARTERS_ROUND, opposite, quarters_right
+from fewbends.headings import QUARTERS_ROUND, end_heading, opposite, quarters_right
 from fewbends.maps import behind, check_outer, ends_at_places, hangs_together, is_flat, lands
 from fewbends.maps import other_end, ties_name_places
 from fewbends.shapes import is_shape, land_sum, wanted_sum
@@ -32,14 +32,9 @@ def check_laid(laid):
 
 def ends_part(laid):
     for ends in ends_at_places(laid[0], laid[1]):
-        if len(set([heading_of(laid, end) for end in ends])) != len(ends):
+        if len(set([end_heading(laid[2], end) for end in ends])) != len(ends):
             return False
     return True
-
-
-def heading_of(laid, end):
-    head = laid[2][end // 2]
-    return head if end % 2 == 0 else opposite(head)
 
 
 def lands_turn_round(laid):
@@ -56,7 +51,7 @@ def land_sums(laid):
 
 def map_of(laid):
     ends_at = ends_at_places(laid[0], laid[1])
-    orders = [sorted(ends, key=lambda end: heading_of(laid, end)) for ends in ends_at]
+    orders = [sorted(ends, key=lambda end: end_heading(laid[2], end)) for ends in ends_at]
     return (laid[0], list(laid[1]), orders)
 
 
@@ -64,7 +59,8 @@ def corners_of(laid):
     web = map_of(laid)
     corners = []
     for end in range(2 * len(laid[1])):
-        corners.append(quarters_right(heading_of(laid, other_end(end)), heading_of(laid, behind(web, end))))
+        back = end_heading(laid[2], other_end(end))
+        corners.append(quarters_right(back, end_heading(laid[2], behind(web, end))))
     return corners
 
 
